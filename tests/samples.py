@@ -1,0 +1,88 @@
+"""Floors and wrong values that several tests use, and the checks of errors."""
+
+import copy
+import itertools
+import unittest
+
+FLOOR = ((2, 3), (((0, 0), (1, 0)),))
+EVEN = ((2, 4), (((0, 1), (1, 1)),))
+SIX = ((6,), (((0, 0), (0, 2)),))
+BARE = ((2, 4), ())
+POINT = ((1,), ())
+POINTS = ((1, 1, 1), (((0, 0), (2, 0)),))
+TWO_PARTS = ((3, 1, 3, 2), (((0, 0), (2, 1)), ((0, 1), (0, 2)), ((1, 0), (3, 1))))
+CHAIN = ((2, 2, 2, 5), (((0, 0), (3, 4)), ((1, 1), (2, 0)), ((2, 1), (3, 0))))
+FORTY = ((1,) * 40, tuple(((u, 0), (u + 1, 0)) for u in range(0, 40, 2)))
+LONG = ((10 ** 30, 3), (((0, 10 ** 30 - 1), (1, 2)),))
+FLOORS = [FLOOR, EVEN, SIX, BARE, POINT, POINTS, TWO_PARTS, CHAIN, FORTY]
+
+DEEP = ((((((((((((),),),),),),),),),),),)
+JUNK = [None, True, False, 0, 1, -1, 7, 10 ** 99, "", "floor", "floor\nring 2", (), [], {}, {"rings": (2, 3)},
+        ((),), [[]], ("floor",), (None, None), (0, 0, 0), ((2, 3),), DEEP, ["a", (1, {"b": [None]})]]
+
+
+def stand_ins(value):
+    """Values of a wrong kind for an integer or a tuple."""
+    if isinstance(value, tuple):
+        return [list(value), {}, None, str(value), True]
+    return [bool(value), str(value), None, (value,), [value], {value: value}]
+
+
+def spoiled(value):
+    """All values with one integer or tuple of the value, at any depth, put as one of a wrong kind."""
+    found = stand_ins(value)
+    if isinstance(value, tuple):
+        for at, item in enumerate(value):
+            found += [value[:at] + (wrong,) + value[at + 1:] for wrong in spoiled(item)]
+    return found
+
+
+WRONG_FLOORS = JUNK + spoiled(FLOOR) + spoiled(TWO_PARTS) + [
+    ((2, 3),), ((2, 3), (), ()), ((), ()), ((0,), ()), ((2, 0), ()), ((-1,), ()), ((1,) * 41, ()),
+    ((2, 3), (((1, 0), (0, 0)),)), ((2, 3), (((0, 0), (0, 0)),)), ((2, 3), (((0, 0), (1, 3)),)),
+    ((2, 3), (((0, 0), (2, 0)),)), ((2, 3), (((-1, 0), (1, 0)),)), ((2, 3), (((0, -1), (1, 0)),)),
+    ((2, 3), (((0, 0), (1, 0)), ((0, 0), (1, 0)))), ((2, 3), (((0, 0), (1, 0)), ((0, 0), (1, 1)))),
+    ((2, 3), (((0, 0), (1, 0)), ((0, 1), (1, 0)))), ((2, 3), (((0, 1), (1, 1)), ((0, 0), (1, 0)))),
+    ((2, 3), (((0, 0), (0, 1)), ((0, 1), (1, 0)))), ((2, 3), ((0, 0), (1, 0))), ((2, 3), (((0, 0), (1, 0), (1, 1)),)),
+    ((2, 3), (((0, 0),),)), ((2, 3), (((0, 0, 0), (1, 0)),)), ((2, 3), (((0,), (1, 0)),)), (((0, 0), (1, 0)), (2, 3)),
+]
+WRONG_PLACES = JUNK + spoiled((0, 0)) + spoiled((1, 2)) + [
+    (2, 0), (-1, 0), (0, 2), (1, 3), (0, -1), (1, 10 ** 99), (-2, 0), (0,), ((0, 0), (1, 0)),
+]
+NO_INTEGERS = [None, True, False, "", "1", (), (1,), [1], {}, {1: 1}, DEEP]
+
+
+class Case(unittest.TestCase):
+    """A test that tells True from 1, and an error of a class from one of another class."""
+
+    def same(self, got, wanted):
+        """Equal also as they are written: no bool for an integer, no list for a tuple."""
+        self.assertEqual(got, wanted)
+        self.assertEqual(repr(got), repr(wanted))
+
+    def raised(self, call, /, *args, **named):
+        """The error that a call raises; nothing that is passed is changed by it."""
+        before = copy.deepcopy((args, named))
+        try:
+            got = call(*args, **named)
+        except Exception as error:
+            self.assertEqual(repr((args, named)), repr(before))
+            return error
+        return self.fail(f"{call.__name__}{args}{named} returned {got!r}")
+
+    def raises(self, wanted, thing, call, /, *args, **named):
+        """The error is of just that class, and has just that value."""
+        error = self.raised(call, *args, **named)
+        self.assertIs(type(error), wanted, (call.__name__, args, named, error))
+        self.assertIs(error.thing, thing)
+
+    def raises_in_order(self, call, *slots):
+        """Wrong arguments are told of in the order of the slots (name, right value, wrong values, error)."""
+        names = [name for name, _, _, _ in slots]
+        right = [good for _, good, _, _ in slots]
+        wrong_ones = [wrongs[-1] for _, _, wrongs, _ in slots]
+        for at, (_, _, wrongs, wanted) in enumerate(slots):
+            for wrong, rest in itertools.product(wrongs, [right, wrong_ones]):
+                args = right[:at] + [wrong] + rest[at + 1:]
+                self.raises(wanted, wrong, call, *args)
+                self.raises(wanted, wrong, call, **dict(zip(names, args)))

@@ -1,0 +1,85 @@
+"""The package as a whole: its files, its interface, its language, its README."""
+
+import ast
+import doctest
+import inspect
+import pathlib
+import unittest
+
+import touchrings.errors
+import touchrings.floors
+import touchrings.turnings
+
+ROOT = pathlib.Path(__file__).resolve().parent.parent
+PACKAGE = ROOT / "touchrings"
+TREES = {path.stem: ast.parse(path.read_text()) for path in sorted(PACKAGE.glob("*.py"))}
+INTERFACE = {
+    touchrings.floors: {
+        "are_rings": "thing", "is_floor": "thing", "is_place": "floor thing", "places": "floor", "seat": "floor place",
+        "behind": "floor place k", "partner": "floor place", "parts": "floor", "is_joined": "floor",
+        "within": "floor lot", "beside": "one other", "with_touch": "floor x y", "without_touch": "floor number",
+    },
+    touchrings.turnings: {
+        "is_turning": "floor thing", "led": "floor turning", "place_led": "floor turning place",
+        "both": "floor first second", "back": "floor turning", "turning_between": "one other", "backward": "floor",
+    },
+}
+BUILTINS = set("""len range enumerate zip min max sum abs sorted reversed int str bool bytes list tuple dict set
+    isinstance ord repr any all divmod Exception""".split())
+BARRED = (ast.Global, ast.AsyncFunctionDef, ast.AsyncFor, ast.AsyncWith, ast.Await, ast.Div, ast.Import)
+
+
+class Package(unittest.TestCase):
+    def test_files(self):
+        names = [path.name for path in PACKAGE.iterdir() if path.name != "__pycache__"]
+        self.assertIn("__init__.py", names)
+        for name in names:
+            self.assertRegex(name, r"\A[a-z0-9_]+\.py\Z")
+
+    def test_characters_and_sizes(self):
+        for path in PACKAGE.glob("*.py"):
+            text = path.read_text(encoding="utf-8")
+            self.assertTrue(all(char == "\n" or " " <= char <= "~" for char in text), path)
+            self.assertLessEqual(len(text.splitlines()), 399, path)
+            self.assertLessEqual(max(len(line) for line in text.splitlines()), 120, path)
+
+    def test_functions_are_small_and_plain(self):
+        for name, tree in TREES.items():
+            for node in ast.walk(tree):
+                self.assertNotIsInstance(node, BARRED, name)
+                if isinstance(node, ast.FunctionDef):
+                    self.assertLessEqual(node.end_lineno - node.lineno + 1, 40, (name, node.name))
+                    self.assertEqual(node.decorator_list, [], (name, node.name))
+                if isinstance(node, ast.Constant):
+                    self.assertNotIsInstance(node.value, (float, complex), name)
+
+    def test_imports_are_of_the_package_and_go_one_way(self):
+        needs = {name: set() for name in TREES}
+        for name, tree in TREES.items():
+            for node in ast.walk(tree):
+                if isinstance(node, ast.ImportFrom):
+                    self.assertRegex(node.module, r"\Atouchrings\.\w+\Z")
+                    needs[name].add(node.module.split(".")[1])
+        while needs:
+            done = [name for name in needs if not needs[name] & set(needs)]
+            self.assertTrue(done, f"files import from each other: {sorted(needs)}")
+            needs = {name: rest for name, rest in needs.items() if name not in done}
+
+    def test_only_plain_builtins(self):
+        for name, tree in TREES.items():
+            known = set(dir(__builtins__) if inspect.ismodule(__builtins__) else __builtins__)
+            used = {node.id for node in ast.walk(tree) if isinstance(node, ast.Name)}
+            self.assertLessEqual(used & known, BUILTINS, name)
+
+    def test_interface_is_defined_in_its_file(self):
+        for module, functions in INTERFACE.items():
+            for name, parameters in functions.items():
+                call = getattr(module, name)
+                self.assertTrue(inspect.isfunction(call), name)
+                self.assertEqual(call.__module__, module.__name__)
+                self.assertEqual(" ".join(inspect.signature(call).parameters), parameters, name)
+
+    def test_readme(self):
+        found = doctest.testfile(str(ROOT / "README.md"), module_relative=False)
+        self.assertGreater(found.attempted, 0)
+        self.assertEqual(found.failed, 0)

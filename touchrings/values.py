@@ -1,0 +1,21 @@
+"""What kinds of values there are; each of these functions takes any value."""
+
+
+def is_whole(thing):
+    """Whether any value is an integer, a bool being none."""
+    return isinstance(thing, int) and not isinstance(thing, bool)
+
+
+def is_below(thing, end):
+    """Whether any value is an integer from 0 to end less 1."""
+    return is_whole(thing) and 0 <= thing < end
+
+
+def is_pair(thing):
+    """Whether any value is a tuple of two items."""
+    return isinstance(thing, tuple) and len(thing) == 2
+
+
+def is_ascending(items):
+    """Whether a tuple, of items that Python can compare, is sorted without repeats."""
+    return all([low < high for low, high in zip(items, items[1:])])
