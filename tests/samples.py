@@ -2,7 +2,10 @@
 
 import copy
 import itertools
+import random
 import unittest
+
+from touchrings.errors import BadFloor, BadPlace, BadPlan
 
 FLOOR = ((2, 3), (((0, 0), (1, 0)),))
 EVEN = ((2, 4), (((0, 1), (1, 1)),))
@@ -22,19 +25,26 @@ JUNK = [None, True, False, 0, 1, -1, 7, 10 ** 99, "", "floor", "floor\nring 2", 
 
 
 def stand_ins(value):
-    """Values of a wrong kind for an integer or a tuple."""
+    """Values of a wrong kind for an integer, a string or a tuple."""
     if isinstance(value, tuple):
         return [list(value), {}, None, str(value), True]
+    if isinstance(value, str):
+        return [value + "s", value.upper(), "", None, 0, True, (value,), [value], {value: value}]
     return [bool(value), str(value), None, (value,), [value], {value: value}]
 
 
 def spoiled(value):
-    """All values with one integer or tuple of the value, at any depth, put as one of a wrong kind."""
+    """All values with one integer, string or tuple of the value, at any depth, put as one of a wrong kind."""
     found = stand_ins(value)
     if isinstance(value, tuple):
         for at, item in enumerate(value):
             found += [value[:at] + (wrong,) + value[at + 1:] for wrong in spoiled(item)]
     return found
+
+
+def without(values, *right):
+    """The values that are none of the right ones."""
+    return [value for value in values if repr(value) not in [repr(one) for one in right]]
 
 
 WRONG_FLOORS = JUNK + spoiled(FLOOR) + spoiled(TWO_PARTS) + [
@@ -49,7 +59,48 @@ WRONG_FLOORS = JUNK + spoiled(FLOOR) + spoiled(TWO_PARTS) + [
 WRONG_PLACES = JUNK + spoiled((0, 0)) + spoiled((1, 2)) + [
     (2, 0), (-1, 0), (0, 2), (1, 3), (0, -1), (1, 10 ** 99), (-2, 0), (0,), ((0, 0), (1, 0)),
 ]
+# For FLOOR, which has five places and one touch.
+WRONG_ARRANGEMENTS = JUNK + spoiled((0, 1, 2, 3, 4)) + [
+    (0, 1, 2, 3), (0, 1, 2, 3, 4, 5), (0, 0, 2, 3, 4), (4, 1, 2, 3, 4), (1, 2, 3, 4, 5), (-1, 0, 1, 2, 3),
+    (0, 1, 2, 3, 10 ** 99), (0, 1, 2, 3, "4"), ((0, 1, 2, 3, 4),), (0, 1, (2, 3, 4)), (0, 1, 2, 3, -1), FLOOR,
+]
+CHANGE = (("beat", (0,)),)
+GREAT = (("times", 10 ** 30, CHANGE),)
+NESTED = (("beat", (0,)), ("times", 2, (("times", 0, ()), ("beat", ()), ("times", 3, (("beat", (0,)),)))))
+WRONG_PLANS = without(JUNK, ()) + spoiled(NESTED) + [
+    (("beat",),), (("beat", (0,), 1),), (("beat", 0),), (("beat", (0,), ()),), (("beats", (0,)),), (("Beat", (0,)),),
+    (("times", 2),), (("times", (), 2),), (("times", -1, ()),), (("times", 2, (), ()),), (("times", ()),),
+    (("times", 2, ("beat", ())),), (("times", 2, (("beat", (1,)),)),), ("beat", (0,)), ("times", 2, ()), ((0,),),
+    (("beat", (1,)),), (("beat", (-1,)),), (("beat", (0, 0)),), (("beat", (0, 1)),), (("beat", (10 ** 99,)),),
+    (("beat", ("0",)),), (("beat", ((0,),)),), (("beat", ()), ()), (("skip", 0),), (("", ()),), ((None, ()),),
+    (("times", 1, (("times", 1, (("times", 1, (("times", 1, (("beat", (1,)),)),)),)),)),), (("touch", (0,)),),
+]
+FLOOR_SLOT = ("floor", FLOOR, WRONG_FLOORS, BadFloor)
+PLACE_SLOT = ("place", (1, 2), WRONG_PLACES, BadPlace)
+PLAN_SLOT = ("plan", NESTED, WRONG_PLANS, BadPlan)
 NO_INTEGERS = [None, True, False, "", "1", (), (1,), [1], {}, {1: 1}, DEEP]
+
+
+def few(slot):
+    """The slot with some of its wrong values."""
+    name, right, wrongs, error = slot
+    return name, right, wrongs[::11] + [wrongs[-1]], error
+
+
+def some_plans(floor, many, depth=3):
+    """Plans of a floor, made by chance, the same ones each time."""
+    chance = random.Random(many)
+    numbers = range(len(floor[1]))
+
+    def steps(depth):
+        found = []
+        for _ in range(chance.randrange(4)):
+            if depth == 0 or chance.random() < 0.6:
+                found.append(("beat", tuple(sorted(chance.sample(numbers, chance.randint(0, len(numbers)))))))
+            else:
+                found.append(("times", chance.randrange(4), steps(depth - 1)))
+        return tuple(found)
+    return [(), (("beat", ()),), (("times", 0, (("beat", ()),)),)] + [steps(depth) for _ in range(many)]
 
 
 class Case(unittest.TestCase):
@@ -76,11 +127,20 @@ class Case(unittest.TestCase):
         self.assertIs(type(error), wanted, (call.__name__, args, named, error))
         self.assertIs(error.thing, thing)
 
+    def refuses(self, call, /, *args, **named):
+        """The call gives just False, and changes nothing that is passed."""
+        before = copy.deepcopy((args, named))
+        self.assertIs(call(*args, **named), False, (call.__name__, args, named))
+        self.assertEqual(repr((args, named)), repr(before))
+
     def raises_in_order(self, call, *slots):
-        """Wrong arguments are told of in the order of the slots (name, right value, wrong values, error)."""
+        """Wrong arguments are told of in the order of the slots (name, right value, wrong values, error).
+
+        A slot that takes any value has no wrong ones.
+        """
         names = [name for name, _, _, _ in slots]
         right = [good for _, good, _, _ in slots]
-        wrong_ones = [wrongs[-1] for _, _, wrongs, _ in slots]
+        wrong_ones = [wrongs[-1] if wrongs else good for _, good, wrongs, _ in slots]
         for at, (_, _, wrongs, wanted) in enumerate(slots):
             for wrong, rest in itertools.product(wrongs, [right, wrong_ones]):
                 args = right[:at] + [wrong] + rest[at + 1:]

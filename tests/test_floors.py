@@ -3,14 +3,11 @@
 import copy
 import itertools
 
-from samples import (BARE, CHAIN, Case, EVEN, FLOOR, FLOORS, FORTY, JUNK, LONG, NO_INTEGERS, POINT, POINTS, SIX,
-                     TWO_PARTS, WRONG_FLOORS, WRONG_PLACES, spoiled)
+from samples import (BARE, CHAIN, Case, EVEN, FLOOR, FLOORS, FLOOR_SLOT, FORTY, JUNK, LONG, NO_INTEGERS, PLACE_SLOT,
+                     POINT, POINTS, SIX, TWO_PARTS, WRONG_FLOORS, WRONG_PLACES, spoiled)
 from touchrings.errors import BadFloor, BadLot, BadNumber, BadPlace, BadTouch
 from touchrings.floors import (are_rings, behind, beside, is_floor, is_joined, is_place, partner, parts, places, seat,
                                with_touch, within, without_touch)
-
-FLOOR_SLOT = ("floor", FLOOR, WRONG_FLOORS, BadFloor)
-PLACE_SLOT = ("place", (1, 2), WRONG_PLACES, BadPlace)
 
 
 class Rings(Case):

@@ -7,7 +7,11 @@ import pathlib
 import unittest
 
 import touchrings.errors
+import touchrings.figures
 import touchrings.floors
+import touchrings.labels
+import touchrings.plans
+import touchrings.texts
 import touchrings.turnings
 
 ROOT = pathlib.Path(__file__).resolve().parent.parent
@@ -23,9 +27,27 @@ INTERFACE = {
         "is_turning": "floor thing", "led": "floor turning", "place_led": "floor turning place",
         "both": "floor first second", "back": "floor turning", "turning_between": "one other", "backward": "floor",
     },
+    touchrings.texts: {"text_of": "floor", "read_floor": "text"},
+    touchrings.plans: {
+        "is_arrangement": "floor thing", "is_plan": "floor thing", "home": "floor", "beats_of": "floor plan",
+        "changes_of": "floor plan", "after": "floor arrangement plan", "before": "floor arrangement plan",
+        "plan_map": "floor plan", "stands_at": "floor plan place t", "unrolled": "floor plan",
+        "plan_back": "floor plan",
+    },
+    touchrings.figures: {
+        "order_of": "floor plan", "times_at": "floor plan place other", "times_all": "floor plan wishes",
+        "judge_times": "floor plan wishes", "times_hold": "floor plan wishes thing",
+        "meetings": "floor plan place other",
+    },
+    touchrings.labels: {
+        "part_numbers": "floor", "labels": "floor", "classes": "floor", "is_free": "floor",
+        "walked": "floor place walk", "judge_labels": "floor m", "labels_hold": "floor m thing",
+        "judge_number": "floor", "number_holds": "floor thing", "inner_number": "floor", "lengths_for": "floor m",
+    },
 }
 BUILTINS = set("""len range enumerate zip min max sum abs sorted reversed int str bool bytes list tuple dict set
     isinstance ord repr any all divmod Exception""".split())
+MATH = {"gcd", "lcm"}
 BARRED = (ast.Global, ast.AsyncFunctionDef, ast.AsyncFor, ast.AsyncWith, ast.Await, ast.Div, ast.Import)
 
 
@@ -53,11 +75,21 @@ class Package(unittest.TestCase):
                 if isinstance(node, ast.Constant):
                     self.assertNotIsInstance(node.value, (float, complex), name)
 
+    def test_names_of_math_are_only_called(self):
+        for name, tree in TREES.items():
+            called = [node.func for node in ast.walk(tree) if isinstance(node, ast.Call) and not node.keywords]
+            for node in ast.walk(tree):
+                if isinstance(node, ast.Name) and node.id in MATH:
+                    self.assertIn(node, called, (name, node.lineno))
+                self.assertNotIn(getattr(node, "arg", None), MATH, name)
+
     def test_imports_are_of_the_package_and_go_one_way(self):
         needs = {name: set() for name in TREES}
         for name, tree in TREES.items():
             for node in ast.walk(tree):
-                if isinstance(node, ast.ImportFrom):
+                if isinstance(node, ast.ImportFrom) and node.module == "math":
+                    self.assertLessEqual({alias.name for alias in node.names}, MATH)
+                elif isinstance(node, ast.ImportFrom):
                     self.assertRegex(node.module, r"\Atouchrings\.\w+\Z")
                     needs[name].add(node.module.split(".")[1])
         while needs:

@@ -2,8 +2,8 @@
 
 import itertools
 
-from samples import (BARE, CHAIN, Case, EVEN, FLOOR, FLOORS, FORTY, JUNK, POINT, POINTS, SIX, TWO_PARTS, WRONG_FLOORS,
-                     WRONG_PLACES, spoiled)
+from samples import (BARE, CHAIN, Case, EVEN, FLOOR, FLOORS, FLOOR_SLOT, JUNK, POINT, POINTS, SIX, TWO_PARTS,
+                     WRONG_FLOORS, WRONG_PLACES, spoiled)
 from touchrings.errors import BadFloor, BadPlace, BadTurning
 from touchrings.floors import behind, beside, is_floor, partner, places
 from touchrings.turnings import back, backward, both, is_turning, led, place_led, turning_between
@@ -14,7 +14,6 @@ WRONG_TURNINGS = JUNK + spoiled(((1, 0), (0, 1))) + spoiled(((0, 1), (1, 2))) + 
     ((0, 1), (2, 0)), ((0, 1), (0, 3)), ((1, 0), (2, 0)), ((0, 1), (-1, 0)), ((0, 1), (0,)), ((0, 1), (0, 0, 0)),
     ((0, 1),), ((0, 1), (0, 0), ()), ((), ()), ((0, 1), ()), ((), (0, 0)), ((0, 1), (10 ** 99, 0)), FLOOR,
 ]
-FLOOR_SLOT = ("floor", FLOOR, WRONG_FLOORS, BadFloor)
 TURNING_SLOT = ("turning", ((1, 0), (0, 1)), WRONG_TURNINGS, BadTurning)
 
 

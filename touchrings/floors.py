@@ -1,7 +1,7 @@
 """Floors: rings of places, some of which touch."""
 
 from touchrings.errors import BadFloor, BadLot, BadNumber, BadPlace, BadTouch
-from touchrings.values import is_ascending, is_below, is_pair, is_whole
+from touchrings.values import are_below, is_ascending, is_below, is_from, is_pair, is_whole
 
 MOST_RINGS = 40
 
@@ -10,7 +10,7 @@ def are_rings(thing):
     """Whether any value is rings: the lengths of one to forty of them."""
     if not isinstance(thing, tuple) or not 1 <= len(thing) <= MOST_RINGS:
         return False
-    return all([is_whole(length) and length >= 1 for length in thing])
+    return all([is_from(length, 1) for length in thing])
 
 
 def is_floor(thing):
@@ -123,18 +123,11 @@ def within(floor, lot):
     """The floor within a lot of rings other than ()."""
     need_floor(floor)
     rings, touches = floor
-    if not _is_lot(rings, lot) or lot == ():
+    if not are_below(lot, len(rings)) or lot == ():
         raise BadLot(lot)
     names = {u: name for name, u in enumerate(lot)}
     kept = [((names[u], i), (names[v], j)) for (u, i), (v, j) in touches if u in names and v in names]
     return floor_of(tuple([rings[u] for u in lot]), kept)
-
-
-def _is_lot(rings, thing):
-    """Whether any value is a lot of rings."""
-    if not isinstance(thing, tuple) or not all([is_below(u, len(rings)) for u in thing]):
-        return False
-    return is_ascending(thing)
 
 
 def beside(one, other):

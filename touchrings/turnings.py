@@ -151,10 +151,10 @@ def backward(floor):
     """The backward floor of a floor."""
     need_floor(floor)
     rings, touches = floor
-    return floor_of(rings, [(_behind_backward(rings, x), _behind_backward(rings, y)) for x, y in touches])
+    return floor_of(rings, [touch_backward(rings, touch) for touch in touches])
 
 
-def _behind_backward(rings, place):
-    """The place of the backward floor that stands for the place ahead of a place."""
-    u, i = place
-    return u, (1 - i) % rings[u]
+def touch_backward(rings, touch):
+    """The touch of the backward floor for a touch: the two places that stand for those ahead of its places."""
+    x, y = sorted([(u, (1 - i) % rings[u]) for u, i in touch])
+    return x, y
