@@ -10,6 +10,8 @@ from touchrings.errors import BadFloor, BadPlace, BadPlan
 FLOOR = ((2, 3), (((0, 0), (1, 0)),))
 EVEN = ((2, 4), (((0, 1), (1, 1)),))
 SIX = ((6,), (((0, 0), (0, 2)),))
+THREES = ((3, 6, 3), (((0, 0), (1, 1)), ((1, 3), (2, 0)), ((1, 4), (2, 1))))
+FOURS = ((4, 8), (((0, 1), (1, 2)), ((0, 2), (1, 7))))
 BARE = ((2, 4), ())
 POINT = ((1,), ())
 POINTS = ((1, 1, 1), (((0, 0), (2, 0)),))
@@ -101,6 +103,20 @@ def some_plans(floor, many, depth=3):
                 found.append(("times", chance.randrange(4), steps(depth - 1)))
         return tuple(found)
     return [(), (("beat", ()),), (("times", 0, (("beat", ()),)),)] + [steps(depth) for _ in range(many)]
+
+
+def some_floors(many):
+    """Floors made by chance, the same ones each time."""
+    chance = random.Random(many)
+    found = []
+    for _ in range(many):
+        rings = tuple(chance.choice([1, 2, 2, 3, 4, 4, 6]) for _ in range(chance.randint(1, 3)))
+        spots = [(u, i) for u, length in enumerate(rings) for i in range(length)]
+        chance.shuffle(spots)
+        pairs = zip(spots[::2], spots[1::2])
+        touches = [tuple(sorted(pair)) for pair in pairs][:chance.randint(0, 4)]
+        found.append((rings, tuple(sorted(touches))))
+    return found
 
 
 class Case(unittest.TestCase):

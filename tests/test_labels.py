@@ -2,19 +2,17 @@
 
 import itertools
 import math
-import random
 
 import reference
-from samples import (BARE, CHAIN, Case, EVEN, FLOOR, FLOORS, FLOOR_SLOT, FORTY, JUNK, LONG, NO_INTEGERS, PLACE_SLOT,
-                     POINT, POINTS, SIX, TWO_PARTS, WRONG_FLOORS, few, spoiled, without)
+from samples import (BARE, CHAIN, Case, EVEN, FLOOR, FLOORS, FLOOR_SLOT, FORTY, FOURS, JUNK, LONG, NO_INTEGERS,
+                     PLACE_SLOT, POINT, POINTS, SIX, THREES, TWO_PARTS, WRONG_FLOORS, few, some_floors, spoiled,
+                     without)
 from touchrings.errors import BadFloor, BadNumber, BadWay, NotJoined
 from touchrings.floors import is_joined, partner, parts, places, within
 from touchrings.labels import (classes, inner_number, is_free, judge_labels, judge_number, labels, labels_hold,
                                lengths_for, number_holds, part_numbers, walked)
 
-THREES = ((3, 6, 3), (((0, 0), (1, 1)), ((1, 3), (2, 0)), ((1, 4), (2, 1))))
 TWELVE = ((12,), (((0, 0), (0, 4)), ((0, 1), (0, 9))))
-FOURS = ((4, 8), (((0, 1), (1, 2)), ((0, 2), (1, 7))))
 MIXED = ((4, 6, 1, 2), (((0, 0), (3, 1)), ((1, 0), (1, 3))))
 LOOSE = ((40,), ())
 ODD = ((19, 21), (((0, 0), (1, 0)),))
@@ -22,20 +20,6 @@ JOINED = [FLOOR, EVEN, SIX, POINT, CHAIN, THREES, TWELVE, FOURS]
 ALL = FLOORS[:-1] + [THREES, TWELVE, FOURS, MIXED]
 WRONG_NUMBERS = NO_INTEGERS + [0, -1, -10 ** 99]
 NUMBER_SLOT = ("m", 3, WRONG_NUMBERS, BadNumber)
-
-
-def some_floors(many):
-    """Floors made by chance, the same ones each time."""
-    chance = random.Random(many)
-    found = []
-    for _ in range(many):
-        rings = tuple(chance.choice([1, 2, 2, 3, 4, 4, 6]) for _ in range(chance.randint(1, 3)))
-        spots = [(u, i) for u, length in enumerate(rings) for i in range(length)]
-        chance.shuffle(spots)
-        pairs = zip(spots[::2], spots[1::2])
-        touches = [tuple(sorted(pair)) for pair in pairs][:chance.randint(0, 4)]
-        found.append((rings, tuple(sorted(touches))))
-    return found
 
 
 def sum_of(walk):
@@ -187,8 +171,8 @@ class Certificates(Case):
         self.assertIs(labels_hold(POINT, 2, ("round", (0, 0), (1,))), True)
 
     def test_all_labellings(self):
-        twos = ((2, 2), (((0, 0), (1, 0)),))
-        for floor, m in [(EVEN, 2), (EVEN, 3), (FLOOR, 1), (FLOOR, 2), (twos, 2), (((4,), ()), 4)]:
+        twos, late = ((2, 2), (((0, 0), (1, 0)),)), ((4, 2), (((0, 3), (1, 0)),))
+        for floor, m in [(EVEN, 2), (EVEN, 3), (FLOOR, 1), (FLOOR, 2), (twos, 2), (late, 2), (((4,), ()), 4)]:
             lot = range(len(floor[0]))
             for thing in itertools.product(range(-1, m + 1), repeat=len(places(floor))):
                 self.assertIs(labels_hold(floor, m, ("labels", thing)), reference.is_labelling(floor, lot, m, thing))

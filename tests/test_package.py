@@ -6,6 +6,8 @@ import inspect
 import pathlib
 import unittest
 
+import touchrings.called
+import touchrings.counts
 import touchrings.errors
 import touchrings.figures
 import touchrings.floors
@@ -13,6 +15,7 @@ import touchrings.labels
 import touchrings.plans
 import touchrings.texts
 import touchrings.turnings
+import touchrings.ways
 
 ROOT = pathlib.Path(__file__).resolve().parent.parent
 PACKAGE = ROOT / "touchrings"
@@ -44,10 +47,22 @@ INTERFACE = {
         "walked": "floor place walk", "judge_labels": "floor m", "labels_hold": "floor m thing",
         "judge_number": "floor", "number_holds": "floor thing", "inner_number": "floor", "lengths_for": "floor m",
     },
+    touchrings.ways: {
+        "is_way": "floor place thing", "way_end": "floor place way", "stands": "floor place t",
+        "times": "floor place other", "first_time": "floor place other", "shortest_way": "floor place other",
+        "judge_stand": "floor place other t", "stand_holds": "floor place other t thing",
+    },
+    touchrings.called: {
+        "called_rest": "floor one other", "sure_beat": "floor", "judge_called": "floor one other",
+        "called_holds": "floor one other thing", "plan_at": "floor one other t",
+    },
+    touchrings.counts: {
+        "many_arrangements": "floor", "number_of": "floor arrangement", "arrangement_with": "floor number",
+    },
 }
 BUILTINS = set("""len range enumerate zip min max sum abs sorted reversed int str bool bytes list tuple dict set
     isinstance ord repr any all divmod Exception""".split())
-MATH = {"gcd", "lcm"}
+MATH = {"gcd", "lcm", "factorial"}
 BARRED = (ast.Global, ast.AsyncFunctionDef, ast.AsyncFor, ast.AsyncWith, ast.Await, ast.Div, ast.Import)
 
 
@@ -102,6 +117,24 @@ class Package(unittest.TestCase):
             known = set(dir(__builtins__) if inspect.ismodule(__builtins__) else __builtins__)
             used = {node.id for node in ast.walk(tree) if isinstance(node, ast.Name)}
             self.assertLessEqual(used & known, BUILTINS, name)
+
+    def test_names_are_given_one_meaning(self):
+        taken = set(dir(__builtins__) if inspect.ismodule(__builtins__) else __builtins__)
+        for name, tree in TREES.items():
+            imports = [node for node in tree.body if isinstance(node, ast.ImportFrom)]
+            imported = {alias.name for node in imports for alias in node.names}
+            stored = {node.id for node in ast.walk(tree) if isinstance(node, ast.Name) and isinstance(node.ctx, ast.Store)}
+            stored |= {node.arg for node in ast.walk(tree) if isinstance(node, ast.arg)}
+            defined = {node.name for node in ast.walk(tree) if isinstance(node, (ast.FunctionDef, ast.ClassDef))}
+            self.assertEqual((stored | defined) & (taken | imported), set(), name)
+            read = {node.id for node in ast.walk(tree) if isinstance(node, ast.Name)}
+            self.assertLessEqual(imported, read, name)
+
+    def test_strings_have_no_percent_sign(self):
+        for name, tree in TREES.items():
+            for node in ast.walk(tree):
+                if isinstance(node, ast.Constant) and isinstance(node.value, str):
+                    self.assertNotIn("\N{PERCENT SIGN}", node.value, name)
 
     def test_interface_is_defined_in_its_file(self):
         for module, functions in INTERFACE.items():

@@ -111,6 +111,6 @@ def meetings(floor, plan, place, other):
 def _least_step(met):
     """The pair (rests, step) of the numbers at which a row that goes on and on is true, with the least such step."""
     step = 1
-    while len(met) % step != 0 or met != met[:step] * (len(met) // step):
+    while met != met[:step] * (len(met) // step):
         step += 1
     return tuple([rest for rest in range(step) if met[rest]]), step
