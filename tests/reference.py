@@ -132,3 +132,35 @@ def reached(floor, one, t):
 
 def round_length(floor):
     return math.lcm(*floor[0])
+
+
+def late_sets(one, length, led):
+    """What can be reached behind 0, 1, .. beats, up to a last round of that length, which then comes again and again.
+
+    led tells the set of what can come of one behind the t-th beat, t being counted by the length.
+    """
+    kept = [{one}]
+    while len(kept) < 2 * length or kept[-length:] != kept[-2 * length:-length]:
+        kept.append({other for now in kept[-1] for other in led(now, len(kept))})
+    return kept
+
+
+def rests_in(kept, length, other):
+    """The remainders by the length of all beats, from some on, behind which something can be reached."""
+    start = len(kept) - length
+    return sorted((start + t) % length for t, row in enumerate(kept[start:]) if other in row)
+
+
+def is_free(floor):
+    """Whether a floor is joined and all places have one label [4.5]."""
+    return len(parts(floor)) == 1 and numbers_and_labels(floor)[0] == (1,)
+
+
+def classes(floor):
+    """The sets of places of one part with one label, as a set."""
+    lots, (_, label) = parts(floor), numbers_and_labels(floor)
+    found = {}
+    for place, told in zip(places(floor), label):
+        lot = [lot for lot in lots if place[0] in lot][0]
+        found.setdefault((lot, told), set()).add(place)
+    return {frozenset(lot) for lot in found.values()}

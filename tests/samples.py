@@ -5,7 +5,9 @@ import itertools
 import random
 import unittest
 
+import reference
 from touchrings.errors import BadFloor, BadPlace, BadPlan
+from touchrings.plans import is_plan
 
 FLOOR = ((2, 3), (((0, 0), (1, 0)),))
 EVEN = ((2, 4), (((0, 1), (1, 1)),))
@@ -119,6 +121,26 @@ def some_floors(many):
     return found
 
 
+def size_of(plan):
+    """The pair of the depth of a plan and of its steps, with all plans in it."""
+    sizes = [size_of(step[2]) for step in plan if step[0] == "times"]
+    return max([1 + depth for depth, _ in sizes], default=0), len(plan) + sum(steps for _, steps in sizes)
+
+
+def mixed(floor, seed):
+    """An arrangement of a floor that falls out by chance."""
+    return tuple(random.Random(seed).sample(range(sum(floor[0])), sum(floor[0])))
+
+
+def led_by_chance(floor, one, seed):
+    """An arrangement, or a guise, to which some calls lead another one."""
+    chance = random.Random(seed)
+    numbers = range(len(floor[1]))
+    for _ in range(40):
+        one = reference.beat(floor, one, sorted(chance.sample(numbers, chance.randint(0, len(numbers)))))
+    return one
+
+
 class Case(unittest.TestCase):
     """A test that tells True from 1, and an error of a class from one of another class."""
 
@@ -126,6 +148,12 @@ class Case(unittest.TestCase):
         """Equal also as they are written: no bool for an integer, no list for a tuple."""
         self.assertEqual(got, wanted)
         self.assertEqual(repr(got), repr(wanted))
+
+    def plan_is_small(self, floor, plan):
+        """A plan that is returned is one, and keeps within what the document tells."""
+        self.assertIs(is_plan(floor, plan), True)
+        depth, steps = size_of(plan)
+        self.assertTrue(depth <= 4 and steps <= 4000)
 
     def raised(self, call, /, *args, **named):
         """The error that a call raises; nothing that is passed is changed by it."""

@@ -6,12 +6,12 @@ import random
 
 import reference
 from samples import (BARE, CHAIN, Case, EVEN, FLOOR, FLOORS, FLOOR_SLOT, JUNK, NO_INTEGERS, POINT, POINTS, SIX,
-                     TWO_PARTS, WRONG_ARRANGEMENTS, WRONG_FLOORS, few, some_floors, spoiled)
+                     TWO_PARTS, WRONG_ARRANGEMENTS, WRONG_FLOORS, few, led_by_chance, mixed, some_floors, spoiled)
 from touchrings.called import called_holds, called_rest, judge_called, plan_at, sure_beat
 from touchrings.errors import BadArrangement, BadFloor, BadNumber, TooSoon
 from touchrings.figures import meetings, order_of
 from touchrings.floors import is_floor, places
-from touchrings.plans import after, before, beats_of, changes_of, home, is_plan, plan_back, plan_map, stands_at
+from touchrings.plans import after, before, beats_of, changes_of, home, plan_back, plan_map, stands_at
 
 # Of two parts with the numbers 2 and 4, of one part with a ring of one place, and of a ring that touches itself.
 TWICE = ((2, 4), (((1, 0), (1, 2)),))
@@ -32,13 +32,9 @@ OTHER_SLOT = ("other", (4, 0, 1, 2, 3), WRONG_ARRANGEMENTS, BadArrangement)
 
 def rests_of(floor, one):
     """The dict from each arrangement that can be called to the pair (rest, step) of its beats, by all rows of calls."""
-    sets = [reference.reached(floor, one, 0)[0]]
-    kept = []
-    # The sets of all that can be reached come again with all beats of a round, from some beat on.
     length = reference.round_length(floor)
-    while len(kept) < 2 * length or kept[-length:] != kept[-2 * length:-length]:
-        kept.append(sets[-1])
-        sets.append({reference.beat(floor, now, call) for now in sets[-1] for call in reference.calls(floor)})
+    kept = reference.late_sets(one, length, lambda now, t: {reference.beat(floor, now, call)
+                                                            for call in reference.calls(floor)})
     late = kept[-length:]
     found = {}
     for other in set().union(*late):
@@ -50,31 +46,9 @@ def rests_of(floor, one):
     return found
 
 
-def size_of(plan):
-    """The pair of the depth of a plan and of its steps, with all plans in it."""
-    sizes = [size_of(step[2]) for step in plan if step[0] == "times"]
-    return max([1 + depth for depth, _ in sizes], default=0), len(plan) + sum(steps for _, steps in sizes)
-
-
-def mixed(floor, seed):
-    """An arrangement of a floor that falls out by chance."""
-    return tuple(random.Random(seed).sample(home(floor), len(home(floor))))
-
-
-def led_by_chance(floor, one, seed):
-    """An arrangement to which some calls lead another one."""
-    chance = random.Random(seed)
-    numbers = range(len(floor[1]))
-    for _ in range(40):
-        one = reference.beat(floor, one, sorted(chance.sample(numbers, chance.randint(0, len(numbers)))))
-    return one
-
-
 class Called(Case):
     def plan_is_right(self, floor, one, other, plan):
-        self.assertIs(is_plan(floor, plan), True)
-        depth, steps = size_of(plan)
-        self.assertTrue(depth <= 4 and steps <= 4000)
+        self.plan_is_small(floor, plan)
         self.same(after(floor, one, plan), other)
         if beats_of(floor, plan) < 5000:
             self.same(reference.after(floor, one, plan), other)

@@ -9,10 +9,14 @@ import unittest
 import touchrings.called
 import touchrings.counts
 import touchrings.errors
+import touchrings.fewest
 import touchrings.figures
 import touchrings.floors
+import touchrings.kinds
 import touchrings.labels
+import touchrings.pairs
 import touchrings.plans
+import touchrings.ruled
 import touchrings.texts
 import touchrings.turnings
 import touchrings.ways
@@ -59,10 +63,29 @@ INTERFACE = {
     touchrings.counts: {
         "many_arrangements": "floor", "number_of": "floor arrangement", "arrangement_with": "floor number",
     },
+    touchrings.kinds: {
+        "guise_after": "floor guise plan", "kind_rests": "floor one other", "many_guises": "floor guise",
+        "judge_kinds": "floor one other", "kinds_hold": "floor one other thing",
+    },
+    touchrings.fewest: {
+        "change_rest": "floor one other t", "changes_bound": "floor one other", "fewest_changes": "floor one other",
+        "fewest_beats": "floor one other", "cheapest_plan": "floor one other", "shortest_plan": "floor one other",
+    },
+    touchrings.pairs: {
+        "can_meet": "floor place other", "first_meeting": "floor place other", "judge_meeting": "floor place other",
+        "meeting_holds": "floor place other thing", "judge_apart": "floor place other",
+        "apart_holds": "floor place other thing", "latest_meeting": "floor place other",
+    },
+    touchrings.ruled: {
+        "are_rules": "floor thing", "ruled_after": "floor rules arrangement calls",
+        "settled_at": "floor rules place t", "made_floor": "floor rules", "rules_round": "floor rules",
+        "tied_lots": "floor rules", "ruled_rests": "floor rules one other",
+    },
 }
 BUILTINS = set("""len range enumerate zip min max sum abs sorted reversed int str bool bytes list tuple dict set
     isinstance ord repr any all divmod Exception""".split())
-MATH = {"gcd", "lcm", "factorial"}
+LIBRARY = {"math": {"gcd", "lcm", "factorial"}, "heapq": {"heappush", "heappop"}, "itertools": {"combinations"}}
+LIBRARY_NAMES = set().union(*LIBRARY.values())
 BARRED = (ast.Global, ast.AsyncFunctionDef, ast.AsyncFor, ast.AsyncWith, ast.Await, ast.Div, ast.Import)
 
 
@@ -90,20 +113,20 @@ class Package(unittest.TestCase):
                 if isinstance(node, ast.Constant):
                     self.assertNotIsInstance(node.value, (float, complex), name)
 
-    def test_names_of_math_are_only_called(self):
+    def test_names_of_the_library_are_only_called(self):
         for name, tree in TREES.items():
             called = [node.func for node in ast.walk(tree) if isinstance(node, ast.Call) and not node.keywords]
             for node in ast.walk(tree):
-                if isinstance(node, ast.Name) and node.id in MATH:
+                if isinstance(node, ast.Name) and node.id in LIBRARY_NAMES:
                     self.assertIn(node, called, (name, node.lineno))
-                self.assertNotIn(getattr(node, "arg", None), MATH, name)
+                self.assertNotIn(getattr(node, "arg", None), LIBRARY_NAMES, name)
 
     def test_imports_are_of_the_package_and_go_one_way(self):
         needs = {name: set() for name in TREES}
         for name, tree in TREES.items():
             for node in ast.walk(tree):
-                if isinstance(node, ast.ImportFrom) and node.module == "math":
-                    self.assertLessEqual({alias.name for alias in node.names}, MATH)
+                if isinstance(node, ast.ImportFrom) and node.module in LIBRARY:
+                    self.assertLessEqual({alias.name for alias in node.names}, LIBRARY[node.module])
                 elif isinstance(node, ast.ImportFrom):
                     self.assertRegex(node.module, r"\Atouchrings\.\w+\Z")
                     needs[name].add(node.module.split(".")[1])

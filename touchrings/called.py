@@ -4,19 +4,13 @@ from touchrings.errors import BadNumber, TooSoon
 from touchrings.floors import need_floor
 from touchrings.labels import marks
 from touchrings.maps import repeated, step_map
-from touchrings.plans import after, is_plan, need_arrangement
+from touchrings.plans import after, is_plan, need_arrangements
 from touchrings.remainders import clash, first_clash, joint_of_all
-from touchrings.swaps import round_length, swaps
+from touchrings.swaps import round_length, swaps, ties
 from touchrings.values import is_below, is_from, is_tagged
 
 
-def _need_both(floor, one, other):
-    """Raise BadFloor, then BadArrangement for the first of two values that is no arrangement."""
-    need_arrangement(floor, one)
-    need_arrangement(floor, other)
-
-
-def _shifts(floor, one, other):
+def shifts(floor, one, other):
     """For each dancer the pair of its shift and the number of its part, None if it is astray."""
     marked = marks(floor)
     ends = dict(zip(other, marked))
@@ -30,8 +24,8 @@ def _shifts(floor, one, other):
 
 def called_rest(floor, one, other):
     """The pair (rest, step) of the numbers of beats of all plans that lead one arrangement to another one, or None."""
-    _need_both(floor, one, other)
-    return joint_of_all(_shifts(floor, one, other))
+    need_arrangements(floor, one, other)
+    return joint_of_all(shifts(floor, one, other))
 
 
 def sure_beat(floor):
@@ -43,20 +37,20 @@ def sure_beat(floor):
 
 def judge_called(floor, one, other):
     """A certificate about whether some plan leads one arrangement to another one."""
-    _need_both(floor, one, other)
-    shifts = _shifts(floor, one, other)
-    if None in shifts:
-        return "astray", shifts.index(None)
-    told = joint_of_all(shifts)
+    need_arrangements(floor, one, other)
+    shifted = shifts(floor, one, other)
+    if None in shifted:
+        return "astray", shifted.index(None)
+    told = joint_of_all(shifted)
     if told is None:
-        d, e = first_clash(shifts)
+        d, e = first_clash(shifted)
         return "unlike", d, e
     rest, _ = told
     steps, beats = _swapped(floor, one, other, rest)
-    return "plan", steps + _idle((rest - beats) % round_length(floor))
+    return "plan", steps + idle((rest - beats) % round_length(floor))
 
 
-def _idle(k):
+def idle(k):
     """The steps of k beats without calls."""
     if k == 0:
         return ()
@@ -73,37 +67,37 @@ def _swapped(floor, one, other, t):
     ahead = [other[s] for s in repeated(step_map(floor), t)]
     steps = ()
     beats = 0
-    for at, number in swaps(floor, one, ahead):
+    for at, number in swaps(ties(floor), one, ahead):
         wait = (at - beats - 1) % length
-        steps = steps + _idle(wait) + (("beat", (number,)),)
+        steps = steps + idle(wait) + (("beat", (number,)),)
         beats += wait + 1
     return steps, beats
 
 
 def called_holds(floor, one, other, thing):
     """Whether any value is a certificate about whether some plan leads one arrangement to another one."""
-    _need_both(floor, one, other)
+    need_arrangements(floor, one, other)
     if is_tagged(thing, "plan", 2):
         return is_plan(floor, thing[1]) and after(floor, one, thing[1]) == other
-    shifts = _shifts(floor, one, other)
+    shifted = shifts(floor, one, other)
     if is_tagged(thing, "astray", 2):
-        return is_below(thing[1], len(one)) and shifts[thing[1]] is None
+        return is_below(thing[1], len(one)) and shifted[thing[1]] is None
     if not is_tagged(thing, "unlike", 3) or not is_below(thing[2], len(one)) or not is_below(thing[1], thing[2]):
         return False
-    first, second = shifts[thing[1]], shifts[thing[2]]
+    first, second = shifted[thing[1]], shifted[thing[2]]
     return first is not None and second is not None and clash(first, second)
 
 
 def plan_at(floor, one, other, t):
     """A plan of t beats that leads one arrangement to another one, None if there is none."""
-    _need_both(floor, one, other)
+    need_arrangements(floor, one, other)
     if not is_from(t, 0):
         raise BadNumber(t)
     sure = sure_beat(floor)
     if t < sure:
         raise TooSoon(sure)
-    told = joint_of_all(_shifts(floor, one, other))
+    told = joint_of_all(shifts(floor, one, other))
     if told is None or t % told[1] != told[0]:
         return None
     steps, beats = _swapped(floor, one, other, t)
-    return steps + _idle(t - beats)
+    return steps + idle(t - beats)

@@ -3,7 +3,7 @@
 from math import factorial, lcm
 
 from touchrings.errors import BadNumber
-from touchrings.labels import classes, marks, part_numbers
+from touchrings.labels import classes, marks, step_of
 from touchrings.plans import need_arrangement
 from touchrings.remainders import clash, joint
 from touchrings.values import is_below
@@ -11,15 +11,7 @@ from touchrings.values import is_below
 
 def many_arrangements(floor):
     """How many arrangements can be called from the home arrangement."""
-    return _step(floor) * _many_orders([len(lot) for lot in classes(floor)])
-
-
-def _step(floor):
-    """The least common multiple of the part numbers."""
-    found = 1
-    for number in part_numbers(floor):
-        found = lcm(found, number)
-    return found
+    return step_of(floor) * _many_orders([len(lot) for lot in classes(floor)])
 
 
 def _many_orders(sizes):
@@ -84,7 +76,7 @@ def _blocks(floor):
     """
     marked = marks(floor)
     left = {mark: marked.count(mark) for mark in marked}
-    step = _step(floor)
+    step = step_of(floor)
     seen = 1
     found = []
     for mark in marked:

@@ -2,9 +2,9 @@
 
 from math import lcm
 
-from touchrings.errors import BadPairs, BadPlace
-from touchrings.floors import is_place_on, need_place
-from touchrings.maps import cycle_from, seats, touch_seats
+from touchrings.errors import BadPairs
+from touchrings.floors import is_place_on, need_places, need_two_places
+from touchrings.maps import cycle_from, order, seats, touch_seats
 from touchrings.plans import need_plan, plan_map
 from touchrings.remainders import clash, first_clash, joint_of_all
 from touchrings.values import is_below, is_from, is_pair, is_tagged
@@ -12,18 +12,13 @@ from touchrings.values import is_below, is_from, is_pair, is_tagged
 
 def order_of(floor, plan):
     """The least number of times from 1 on behind which each dancer is where it began."""
-    found = plan_map(floor, plan)
-    order = 1
-    for s in range(len(found)):
-        order = lcm(order, len(cycle_from(found, s)))
-    return order
+    return order(plan_map(floor, plan))
 
 
 def times_at(floor, plan, place, other):
     """The pair (rest, step) of the times behind which the dancer from a place stands at the other one, or None."""
     need_plan(floor, plan)
-    need_place(floor, place)
-    need_place(floor, other)
+    need_places(floor, place, other)
     return _pairs_of(floor, plan, ((place, other),))[0]
 
 
@@ -93,10 +88,7 @@ def _is_told(pair, n):
 def meetings(floor, plan, place, other):
     """The pair (rests, step) of the times behind which the dancers from two places meet."""
     need_plan(floor, plan)
-    need_place(floor, place)
-    need_place(floor, other)
-    if place == other:
-        raise BadPlace(other)
+    need_two_places(floor, place, other)
     found = plan_map(floor, plan)
     at = seats(floor)
     first, second = cycle_from(found, at[place]), cycle_from(found, at[other])

@@ -55,6 +55,19 @@ def need_place(floor, place):
         raise BadPlace(place)
 
 
+def need_places(floor, place, other):
+    """Raise BadFloor for any value that is no floor, then BadPlace for the first of two that is no place of it."""
+    need_place(floor, place)
+    need_place(floor, other)
+
+
+def need_two_places(floor, place, other):
+    """Raise BadFloor, then BadPlace for the first of two that is no place, then for the other one if both are one."""
+    need_places(floor, place, other)
+    if place == other:
+        raise BadPlace(other)
+
+
 def floor_of(rings, pairs):
     """The floor with these rings whose touches are pairs of places, told in any order."""
     return rings, tuple(sorted([(min(x, y), max(x, y)) for x, y in pairs]))
@@ -143,8 +156,7 @@ def beside(one, other):
 
 def with_touch(floor, x, y):
     """The floor with one more touch of two places, told in either order."""
-    need_place(floor, x)
-    need_place(floor, y)
+    need_places(floor, x, y)
     rings, touches = floor
     taken = partners(floor)
     if x == y or x in taken or y in taken:

@@ -1,6 +1,6 @@
 """Labels: what tells places apart whatever is called."""
 
-from math import gcd
+from math import gcd, lcm
 
 from touchrings.errors import BadNumber, BadWay, NotJoined
 from touchrings.floors import is_joined, is_place, need_place, partners, parts, places
@@ -23,6 +23,14 @@ def part_numbers(floor):
     return tuple(numbers)
 
 
+def step_of(floor):
+    """The step of a floor: the least common multiple of its part numbers."""
+    found = 1
+    for number in part_numbers(floor):
+        found = lcm(found, number)
+    return found
+
+
 def _divisor(numbers):
     """The greatest common divisor of numbers, 0 if all are 0."""
     found = 0
@@ -41,6 +49,11 @@ def marks(floor):
 def labels(floor):
     """The labels of a floor by seats."""
     return tuple([label for _, label, _ in marks(floor)])
+
+
+def labelling_to(floor, m):
+    """The labelling to m that keeps each part of a floor whose number m divides."""
+    return tuple([label % m for label in labels(floor)])
 
 
 def classes(floor):

@@ -1,5 +1,7 @@
 """Maps: lists of seats; the item at a seat is the seat to which it leads."""
 
+from math import lcm
+
 from touchrings.floors import places
 
 
@@ -23,14 +25,20 @@ def touch_seats(floor):
     return [(at[x], at[y]) for x, y in floor[1]]
 
 
-def moves(floor):
-    """What the map of a beat is made from: the map of a step, and the seats of the touches."""
-    return step_map(floor), touch_seats(floor)
+def moves(floor, skips=()):
+    """What the maps of plans are made from: the map of a step, the seats of the touches, the maps of the skips."""
+    return step_map(floor), touch_seats(floor), [_skip_map(floor, u, r) for u, r in skips]
+
+
+def _skip_map(floor, u, r):
+    """The map by which all dancers of one ring step on that many times."""
+    at = seats(floor)
+    return [at[(v, (i + r) % floor[0][v])] if v == u else s for (v, i), s in at.items()]
 
 
 def beat_map(moved, call):
     """The map of a beat with a call."""
-    stepped, touched = moved
+    stepped, touched, _ = moved
     changed = list(range(len(stepped)))
     for number in call:
         s, r = touched[number]
@@ -51,6 +59,8 @@ def map_of_step(moved, step):
     """The map of a step of a plan."""
     if step[0] == "beat":
         return beat_map(moved, step[1])
+    if step[0] == "skip":
+        return moved[2][step[1]]
     return repeated(map_of(moved, step[2]), step[1])
 
 
@@ -67,12 +77,39 @@ def cycle_from(one, s):
     return found
 
 
+def cycles(one):
+    """The cycles of a map, each from its least seat on, in the order of these."""
+    seen = set()
+    found = []
+    for s in range(len(one)):
+        if s not in seen:
+            cycle = cycle_from(one, s)
+            found.append(cycle)
+            for r in cycle:
+                seen.add(r)
+    return found
+
+
+def order(one):
+    """The least number of times from 1 on behind which a map leads each seat to itself."""
+    found = 1
+    for cycle in cycles(one):
+        found = lcm(found, len(cycle))
+    return found
+
+
 def repeated(one, k):
     """The map that leads as a map does, k times, back if k is below 0."""
-    found = [None] * len(one)
-    for s in range(len(one)):
-        if found[s] is None:
-            cycle = cycle_from(one, s)
-            for at, r in enumerate(cycle):
-                found[r] = cycle[(at + k) % len(cycle)]
+    found = [0] * len(one)
+    for cycle in cycles(one):
+        for at, s in enumerate(cycle):
+            found[s] = cycle[(at + k) % len(cycle)]
     return found
+
+
+def led_by(items, one):
+    """The tuple of items by seats, each led from its seat by a map."""
+    found = [0] * len(one)
+    for item, s in zip(items, one):
+        found[s] = item
+    return tuple(found)

@@ -2,7 +2,7 @@
 
 from touchrings.errors import BadArrangement, BadNumber, BadPlan, TooMany
 from touchrings.floors import need_floor, need_place, places, seat
-from touchrings.maps import map_of, map_of_step, moves, repeated
+from touchrings.maps import led_by, map_of, map_of_step, moves, repeated
 from touchrings.turnings import backward, touch_backward
 from touchrings.values import are_below, is_below, is_from, is_tagged
 
@@ -24,22 +24,30 @@ def need_arrangement(floor, arrangement):
         raise BadArrangement(arrangement)
 
 
+def need_arrangements(floor, one, other):
+    """Raise BadFloor, then BadArrangement for the first of two values that is no arrangement."""
+    need_arrangement(floor, one)
+    need_arrangement(floor, other)
+
+
 def is_plan(floor, thing):
     """Whether any value is a plan of a floor."""
     need_floor(floor)
-    return _are_steps(len(floor[1]), thing)
+    return are_steps(len(floor[1]), 0, thing)
 
 
-def _are_steps(many, thing):
-    """Whether any value is a plan of a floor with that many touches."""
-    return isinstance(thing, tuple) and all([_is_step(many, step) for step in thing])
+def are_steps(touches, skips, thing):
+    """Whether any value is a plan, perhaps a skip plan, of a floor with that many touches and skips."""
+    return isinstance(thing, tuple) and all([_is_step(touches, skips, step) for step in thing])
 
 
-def _is_step(many, thing):
-    """Whether any value is a step of a plan of a floor with that many touches."""
+def _is_step(touches, skips, thing):
+    """Whether any value is a step of such a plan."""
     if is_tagged(thing, "beat", 2):
-        return are_below(thing[1], many)
-    return is_tagged(thing, "times", 3) and is_from(thing[1], 0) and _are_steps(many, thing[2])
+        return are_below(thing[1], touches)
+    if is_tagged(thing, "skip", 2):
+        return is_below(thing[1], skips)
+    return is_tagged(thing, "times", 3) and is_from(thing[1], 0) and are_steps(touches, skips, thing[2])
 
 
 def need_plan(floor, plan):
@@ -84,10 +92,7 @@ def _changes(plan):
 def after(floor, arrangement, plan):
     """The arrangement behind a plan."""
     need_arrangement(floor, arrangement)
-    found = [0] * len(arrangement)
-    for dancer, s in zip(arrangement, plan_map(floor, plan)):
-        found[s] = dancer
-    return tuple(found)
+    return led_by(arrangement, plan_map(floor, plan))
 
 
 def before(floor, arrangement, plan):

@@ -46,18 +46,17 @@ def hops(tied, goal, allowed):
     return found
 
 
-def swaps(floor, one, goal):
-    """Swaps (t, number), one behind the other, that lead one arrangement to a goal within the classes.
+def swaps(tied, one, goal):
+    """What ties tell of the swaps, one behind the other, that lead one arrangement to a goal within joined seats.
 
-    Of n dancers of a class each seat takes at most as many swaps as seats are left, so there are at most n times
+    Of n dancers on joined seats each seat takes at most as many swaps as seats are left, so there are at most n times
     (n - 1), divided by 2, of them.
     """
-    tied = ties(floor)
     now = list(one)
     left = {s: True for s in range(len(now))}
     found = []
     while left != {}:
-        # The farthest seat of a class can be left out without parting the other ones.
+        # The farthest seat can be left out without parting the other ones.
         last = list(hops(tied, min(left), left))[-1]
         nearer = hops(tied, last, left)
         s = now.index(goal[last])

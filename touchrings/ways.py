@@ -1,8 +1,8 @@
 """Ways: where one dancer can be, whatever the others do."""
 
 from touchrings.errors import BadNumber, BadWay
-from touchrings.floors import behind, is_place_on, need_place, partners, parts, places, seat
-from touchrings.labels import keeps, marks
+from touchrings.floors import behind, is_place_on, need_place, need_places, partners, parts, places, seat
+from touchrings.labels import keeps, labelling_to, marks
 from touchrings.maps import seats
 from touchrings.values import is_ascending, is_below, is_from, is_pair, is_tagged
 
@@ -88,13 +88,7 @@ def stands(floor, place, t):
     return _places_in(floor, [mark == later for mark in marked])
 
 
-def _need_places(floor, place, other):
-    """Raise BadFloor for any value that is no floor, then BadPlace for the first of two that is no place of it."""
-    need_place(floor, place)
-    need_place(floor, other)
-
-
-def _label_step(floor, place, other):
+def label_step(floor, place, other):
     """The pair of the label of a place less that of another one by the number of their part, and that number.
 
     None if the places are of unlike parts.
@@ -107,8 +101,8 @@ def _label_step(floor, place, other):
 
 def times(floor, place, other):
     """The times (few, start, d, g) from a place to another one, None if they are of unlike parts."""
-    _need_places(floor, place, other)
-    step = _label_step(floor, place, other)
+    need_places(floor, place, other)
+    step = label_step(floor, place, other)
     if step is None:
         return None
     rest, number = step
@@ -170,12 +164,12 @@ def _runs(changes, idle):
 def judge_stand(floor, place, other, t):
     """A certificate about whether a dancer from a place can stand at another one behind t beats."""
     _need_stand(floor, place, other, t)
-    step = _label_step(floor, place, other)
+    step = label_step(floor, place, other)
     if step is None:
         return ("parts",)
     rest, number = step
     if t % number != rest:
-        return "labels", number, tuple([label % number for _, label, _ in marks(floor)])
+        return "labels", number, labelling_to(floor, number)
     rows = _rows(floor, place)
     way = _way_of(floor, rows, other, t)
     if way is not None:
@@ -185,7 +179,7 @@ def judge_stand(floor, place, other, t):
 
 def _need_stand(floor, place, other, t):
     """Raise BadFloor, BadPlace, then BadNumber for any value that is no integer from 0 on."""
-    _need_places(floor, place, other)
+    need_places(floor, place, other)
     if not is_from(t, 0):
         raise BadNumber(t)
 
@@ -193,18 +187,18 @@ def _need_stand(floor, place, other, t):
 def stand_holds(floor, place, other, t, thing):
     """Whether any value is a certificate about where a dancer from a place can stand behind t beats."""
     _need_stand(floor, place, other, t)
-    step = _label_step(floor, place, other)
+    step = label_step(floor, place, other)
     if is_tagged(thing, "way", 2):
         way = thing[1]
         return _end_of_way(floor, place, way) == other and sum([k for k, _ in way]) == t
     if is_tagged(thing, "parts", 1):
         return step is None
     if is_tagged(thing, "labels", 3):
-        return step is not None and _labels_bar(floor, place, other, t, thing[1], thing[2])
+        return step is not None and labels_bar(floor, place, other, t, thing[1], thing[2])
     return is_tagged(thing, "rows", 2) and _rows_bar(floor, place, other, t, thing[1])
 
 
-def _labels_bar(floor, place, other, t, m, labelling):
+def labels_bar(floor, place, other, t, m, labelling):
     """Whether any values are a number m and a labelling to m that keeps the part of two places and bars t beats."""
     part = marks(floor)[seat(floor, place)][0]
     if not is_from(m, 1) or not keeps(floor, parts(floor)[part], m, labelling):
