@@ -12,13 +12,17 @@ import touchrings.errors
 import touchrings.fewest
 import touchrings.figures
 import touchrings.floors
+import touchrings.halls
 import touchrings.kinds
 import touchrings.labels
+import touchrings.offers
 import touchrings.pairs
 import touchrings.plans
 import touchrings.ruled
+import touchrings.skips
 import touchrings.texts
 import touchrings.turnings
+import touchrings.unseen
 import touchrings.ways
 
 ROOT = pathlib.Path(__file__).resolve().parent.parent
@@ -81,6 +85,25 @@ INTERFACE = {
         "settled_at": "floor rules place t", "made_floor": "floor rules", "rules_round": "floor rules",
         "tied_lots": "floor rules", "ruled_rests": "floor rules one other",
     },
+    touchrings.skips: {
+        "are_skips": "floor thing", "skip_numbers": "floor skips", "skipped_after": "floor skips arrangement plan",
+        "judge_skipped": "floor skips one other", "skipped_hold": "floor skips one other thing",
+    },
+    touchrings.offers: {
+        "needless": "floor", "are_offers": "floor thing", "fewest_offers": "floor offers",
+        "judge_offers": "floor offers", "offers_hold": "floor offers thing",
+    },
+    touchrings.unseen: {
+        "judge_sights": "rings sights", "sights_hold": "rings sights thing", "least_floor": "rings sights",
+        "sure": "rings sights claim",
+    },
+    touchrings.halls: {"read_hall": "text"},
+}
+METHODS = {
+    "__init__": "self floor", "floor": "self", "arrangement": "self", "promises": "self", "deeds": "self",
+    "judged": "self promise", "against_holds": "self promise thing", "change": "self change", "deal": "self changes",
+    "would": "self changes", "undo": "self", "redo": "self", "copied": "self", "__eq__": "self other",
+    "__str__": "self",
 }
 BUILTINS = set("""len range enumerate zip min max sum abs sorted reversed int str bool bytes list tuple dict set
     isinstance ord repr any all divmod Exception""".split())
@@ -166,6 +189,13 @@ class Package(unittest.TestCase):
                 self.assertTrue(inspect.isfunction(call), name)
                 self.assertEqual(call.__module__, module.__name__)
                 self.assertEqual(" ".join(inspect.signature(call).parameters), parameters, name)
+
+    def test_methods_of_the_hall_are_defined_in_it(self):
+        self.assertEqual(touchrings.halls.Hall.__module__, "touchrings.halls")
+        for name, parameters in METHODS.items():
+            call = vars(touchrings.halls.Hall)[name]
+            self.assertTrue(inspect.isfunction(call), name)
+            self.assertEqual(" ".join(inspect.signature(call).parameters), parameters, name)
 
     def test_readme(self):
         found = doctest.testfile(str(ROOT / "README.md"), module_relative=False)

@@ -19,7 +19,7 @@ def part_numbers(floor):
     numbers = []
     for lot in lots:
         spoilt = [gap for (x, _), gap in gap_of if x[0] in lot]
-        numbers.append(_divisor([rings[u] for u in lot] + spoilt))
+        numbers.append(divisor([rings[u] for u in lot] + spoilt))
     return tuple(numbers)
 
 
@@ -31,7 +31,7 @@ def step_of(floor):
     return found
 
 
-def _divisor(numbers):
+def divisor(numbers):
     """The greatest common divisor of numbers, 0 if all are 0."""
     found = 0
     for number in numbers:
@@ -81,7 +81,7 @@ def keeps(floor, lot, m, thing):
     return all([thing[s] == thing[r] for (x, _), (s, r) in zip(touches, touch_seats(floor)) if x[0] in lot])
 
 
-def _keeps_all(floor, m, thing):
+def keeps_all(floor, m, thing):
     """Whether any value is a labelling to m that keeps a floor."""
     return keeps(floor, tuple(range(len(floor[0]))), m, thing)
 
@@ -143,7 +143,7 @@ def labels_hold(floor, m, thing):
     """Whether any value is a certificate about a joined floor and a number m."""
     _need_number(floor, m)
     if is_tagged(thing, "labels", 2):
-        return _keeps_all(floor, m, thing[1])
+        return keeps_all(floor, m, thing[1])
     return is_tagged(thing, "round", 3) and _is_round(floor, thing[1], thing[2]) and sum_of(thing[2]) % m != 0
 
 
@@ -159,17 +159,17 @@ def number_holds(floor, thing):
     if not is_tagged(thing, "number", 4):
         return False
     number, labelling, told = thing[1], thing[2], thing[3]
-    if not is_from(number, 1) or not _keeps_all(floor, number, labelling) or not isinstance(told, tuple):
+    if not is_from(number, 1) or not keeps_all(floor, number, labelling) or not isinstance(told, tuple):
         return False
     if not all([is_pair(pair) and _is_round(floor, pair[0], pair[1]) for pair in told]):
         return False
-    return _divisor([sum_of(walk) for _, walk in told]) == number
+    return divisor([sum_of(walk) for _, walk in told]) == number
 
 
 def inner_number(floor):
     """The greatest common divisor of the sums of the rounds that never pass the end of a ring, 0 if all are 0."""
     _need_joined(floor)
-    return _divisor(gaps(floor))
+    return divisor(gaps(floor))
 
 
 def lengths_for(floor, m):
@@ -179,7 +179,7 @@ def lengths_for(floor, m):
     if inner % m != 0:
         return None
     first, *others = [-(-length // m) * m for length in floor[0]]
-    bound = _divisor([inner, *others])
+    bound = divisor([inner, *others])
     if bound == 0 and first != m:
         return None
     # Some multiple of m has no other divisor in common with bound, so this comes to an end.

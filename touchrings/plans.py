@@ -4,7 +4,7 @@ from touchrings.errors import BadArrangement, BadNumber, BadPlan, TooMany
 from touchrings.floors import need_floor, need_place, places, seat
 from touchrings.maps import led_by, map_of, map_of_step, moves, repeated
 from touchrings.turnings import backward, touch_backward
-from touchrings.values import are_below, is_below, is_from, is_tagged
+from touchrings.values import are_below, is_below, is_from, is_order, is_tagged
 
 MOST_UNROLLED = 2000
 
@@ -12,10 +12,7 @@ MOST_UNROLLED = 2000
 def is_arrangement(floor, thing):
     """Whether any value is an arrangement of a floor."""
     need_floor(floor)
-    many = sum(floor[0])
-    if not isinstance(thing, tuple) or len(thing) != many or not all([is_below(dancer, many) for dancer in thing]):
-        return False
-    return sorted(thing) == list(range(many))
+    return is_order(thing, sum(floor[0]))
 
 
 def need_arrangement(floor, arrangement):

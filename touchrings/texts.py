@@ -32,10 +32,7 @@ def read_floor(text):
 def _with_line(floor, line):
     """What has been read of a floor, with what one more line tells of it; None if no floor goes on so."""
     rings, touches = floor
-    word, *numbers = line.split(" ")
-    if not all([_is_number(number) for number in numbers]):
-        return None
-    told = [int(number) for number in numbers]
+    word, told = line_told(line)
     if word == "ring" and len(told) == 1 and touches == ():
         more = (rings + (told[0],), ())
     elif word == "touch" and len(told) == 4:
@@ -43,6 +40,14 @@ def _with_line(floor, line):
     else:
         return None
     return more if is_floor(more) else None
+
+
+def line_told(line):
+    """The pair of the first word of a line and of the integers behind it; the word is None if there is more in it."""
+    word, *numbers = line.split(" ")
+    if not all([_is_number(number) for number in numbers]):
+        return None, []
+    return word, [int(number) for number in numbers]
 
 
 def _is_number(word):

@@ -2,26 +2,19 @@
 
 from touchrings.errors import BadTurning
 from touchrings.floors import floor_of, need_floor, need_place, partners, parts, within
-from touchrings.values import is_below, is_pair
+from touchrings.values import is_below, is_order, is_pair
 
 
 def is_turning(floor, thing):
     """Whether any value is a turning of a floor."""
     need_floor(floor)
     rings = floor[0]
-    if not is_pair(thing) or not _are_names(rings, thing[0]):
+    if not is_pair(thing) or not is_order(thing[0], len(rings)):
         return False
     shifts = thing[1]
     if not isinstance(shifts, tuple) or len(shifts) != len(rings):
         return False
     return all([is_below(shift, length) for shift, length in zip(shifts, rings)])
-
-
-def _are_names(rings, thing):
-    """Whether any value is a tuple that has each ring once."""
-    if not isinstance(thing, tuple) or not all([is_below(name, len(rings)) for name in thing]):
-        return False
-    return sorted(thing) == list(range(len(rings)))
 
 
 def need_turning(floor, turning):

@@ -31,6 +31,13 @@ def is_ascending(items):
     return all([low < high for low, high in zip(items, items[1:])])
 
 
+def is_order(thing, many):
+    """Whether any value is a tuple that has each integer from 0 to many less 1 once."""
+    if not isinstance(thing, tuple) or len(thing) != many or not all([is_below(item, many) for item in thing]):
+        return False
+    return sorted(thing) == list(range(many))
+
+
 def are_below(thing, end):
     """Whether any value is an ascending tuple of integers from 0 to end less 1."""
     return isinstance(thing, tuple) and all([is_below(item, end) for item in thing]) and is_ascending(thing)
