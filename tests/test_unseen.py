@@ -242,6 +242,21 @@ class Seen(Unseen):
         self.assertIs(sights_hold((1,) * 6, sights, ("strange", 2, (0, 0))), False)
         self.assertIs(sights_hold((1,) * 6, sights, ("two", 1, 2, (1, 0))), False)
 
+    def test_two_changed_by_two_both_times(self):
+        # On rings of one place: two who change, and then three of whom each stands where the next one stood.
+        rings, one = (1,) * 4, (0, 1, 2, 3)
+        for round_of_three in [(1, 2, 0, 3), (2, 0, 1, 3)]:
+            later = tuple((1, 0, 2, 3)[at] for at in round_of_three)
+            for sights in [(one, (1, 0, 2, 3), later), (one, round_of_three, (2, 1, 0, 3))]:
+                for x in places((rings, ())):
+                    self.assertIs(sights_hold(rings, sights, ("two", 1, 2, x)),
+                                  self.bar_is_right(rings, sights, ("two", 1, 2, x)))
+                    self.assertIs(sights_hold(rings, sights, ("two", 1, 2, (3, 0))), False)
+            # Of no floor at all are the pairs of places seen touches.
+            for sights in [(one, round_of_three), (one, round_of_three, one)]:
+                for touches in [floor[1] for floor in floors_on(rings)]:
+                    self.assertIs(sights_hold(rings, sights, ("touches", touches)), False)
+
     def test_wrong_certificates(self):
         strange = ((0, 1, 2, 3, 4), (0, 1, 2, 3, 4))
         two = ((0, 1, 2), (1, 0, 2), (2, 0, 1))
