@@ -145,6 +145,7 @@ class Parts(Case):
         self.same(parts(TWO_PARTS), ((0, 2), (1, 3)))
         self.same(parts(CHAIN), ((0, 1, 2, 3),))
         self.same(parts(FORTY), tuple((u, u + 1) for u in range(0, 40, 2)))
+        self.same(parts(((1, 1, 1, 2), (((0, 0), (3, 0)), ((2, 0), (3, 1))))), ((0, 2, 3), (1,)))
 
     def test_parts_joined_by_late_ties(self):
         rings = (2, 2, 2, 2, 1)

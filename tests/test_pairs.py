@@ -306,6 +306,15 @@ class Apart(Pairs):
             self.assertIs(apart_holds(floor, x, y, ("loop", plan, idle)), wanted)
             self.assertIs(wanted, k < 4)
 
+    def test_a_meeting_behind_very_many_rounds(self):
+        idle = (("beat", ()),)
+        for rings in [(5, 7), (6, 7), (5, 9), (1, 13)]:
+            floor = (rings, (((0, 0), (1, 0)),))
+            x, y = (0, 1 % rings[0]), (1, 1)
+            self.assertEqual(meets(floor, x, y, [()] * (rings[0] * rings[1] - 1)), [rings[0] * rings[1] - 1])
+            self.refuses(apart_holds, floor, x, y, ("loop", (), idle))
+            self.refuses(apart_holds, floor, x, y, ("loop", (), (("times", 2, idle),)))
+
     def test_how_often_a_plan_may_be_done(self):
         # Of two rings of unlike lengths a beat without calls is done until they meet.
         floor, idle = ((4, 5), (((0, 0), (1, 0)),)), (("beat", ()),)

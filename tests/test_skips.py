@@ -275,6 +275,15 @@ class Certificates(Skipped):
         self.assertEqual(self.judged(TWICE, ((1, 2),), home(BARE), (0, 1, 3, 2, 5, 4)), "unlike")
         self.assertEqual(self.judged(TWICE, ((1, 1),), home(BARE), (0, 1, 3, 2, 4, 5)), "unlike")
 
+    def test_unlike_parts_with_numbers_that_have_a_divisor(self):
+        floor = ((4, 6), ())
+        for skips in [(), ((0, 2),), ((1, 3),), ((0, 1000), (1, 2))]:
+            for a, b in itertools.product(range(4), range(6)):
+                other = put_on(floor, put_on(floor, home(floor), (0, a)), (1, b))
+                self.judged(floor, skips, home(floor), other)
+        self.assertEqual(self.judged(floor, (), home(floor), put_on(floor, home(floor), (1, 2))), "plan")
+        self.assertEqual(self.judged(floor, (), home(floor), put_on(floor, home(floor), (1, 3))), "unlike")
+
     def test_two_skips_of_one_ring(self):
         floor = ((6, 6), (((0, 0), (1, 0)),))
         one = home(floor)
@@ -306,7 +315,7 @@ class Certificates(Skipped):
         self.assertIs(skipped_hold(FLOOR, SKIPS, other, other, right), False)
         wrong = [("plan", plan) for plan in [(), NESTED[:1], NESTED[1:], NESTED + (("skip", 0),), (("skip", 2),)]]
         wrong += [right + (0,), right[:1], right[1:], NESTED, ("plans", NESTED), ("astray", 0), ("unlike", 0, 1)]
-        for thing in JUNK + [("plan", plan) for plan in spoiled(NESTED)] + wrong:
+        for thing in JUNK + [("plan", plan) for plan in WRONG_SKIP_PLANS] + wrong:
             self.refuses(skipped_hold, FLOOR, SKIPS, HOME, other, thing)
         self.assertIs(skipped_hold(FLOOR, SKIPS, HOME, HOME, ("plan", (("times", 6 * FAR, NESTED),))),
                       skipped_after(FLOOR, SKIPS, HOME, (("times", 6 * FAR, NESTED),)) == HOME)
