@@ -9,14 +9,17 @@ from touchrings.errors import BadText
 from touchrings.halls import Hall, read_hall
 from touchrings.plans import home
 
-PROMISED = "floor\nring 2\nring 4\ntouch 0 1 1 1\ndancers 1 2 5 0 3 4\napart 0 1\njoined\nnumber 2\ncallable 0 1 2 3 4 5"
+PROMISED = "floor\nring 2\nring 4\ntouch 0 1 1 1\ndancers 1 2 5 0 3 4\napart 0 1\njoined\nnumber 2\n"
+PROMISED += "callable 0 1 2 3 4 5"
 WORDS = ["", " ", "floor", "ring 2", "ring 0", "ring 02", "ring", "ring 1 1", "touch 0 0 1 0", "touch 0 0 0 0",
          "touch 0 1 1 1", "dancers", "dancers 0", "dancers 0 1 2 3 4 5", "dancers 5 4 3 2 1 0", "dancers 0 1 2 3 4 4",
-         "dancers 0 1 2 3 4 5 ", "dancers  0 1 2 3 4 5", "dancers 0 1 2 3 4 6", "dancers -1 0 1 2 3 4", "joined", "joined 0",
-         "joined ", "free", "free 1", "number", "number 2", "number 4", "number 3", "number 0", "number 1001",
-         "number 1000", "number 02", "number +2", "number 2 2", "callable", "callable 0", "callable 2 1 0 3 4 5",
-         "callable 1 0 2 3 4 5", "callable 0 1 2 3 4 5 6", "apart 0 1", "apart 1 0", "apart 0 2", "apart 2 5", "apart 0 0",
-         "apart 0 6", "apart 0", "apart 0 1 2", "apart -1 0", "Joined", "holds", "parts 0", "touch 0 0 1 3", "ring 5",
+         "dancers 0 1 2 3 4 5 ", "dancers  0 1 2 3 4 5", "dancers 0 1 2 3 4 6", "dancers -1 0 1 2 3 4", "joined",
+         "joined 0", "joined ", "free", "free 1", "number", "number 2", "number 4", "number 3", "number 0",
+         "number 1001", "number 1000", "number 02", "number +2", "number 2 2", "callable", "callable 0",
+         "callable 2 1 0 3 4 5",
+         "callable 1 0 2 3 4 5", "callable 0 1 2 3 4 5 6", "apart 0 1", "apart 1 0", "apart 0 2", "apart 2 5",
+         "apart 0 0", "apart 0 6", "apart 0", "apart 0 1 2", "apart -1 0", "Joined", "holds", "parts 0",
+         "touch 0 0 1 3", "ring 5",
          "number 99999999999999999999", "ring 99999999999999999999", "dancers 99999999999999999999", "number \u0662"]
 
 

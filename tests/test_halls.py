@@ -17,10 +17,12 @@ DEAL = (("promise", ("apart", 0, 1)), ("beat", (0,)))
 # For FLOOR, which has one touch.
 WRONG_CALLS = without(JUNK, ()) + spoiled((0,)) + [(1,), (-1,), (0, 0), (0, 1), ((0,),), (10 ** 99,), ("0",), 0]
 WRONG_CHANGES = JUNK + [
-    ("beat",), ("beat", (), ()), ("plan",), ("plan", (), ()), ("open",), ("open", (0, 1)), ("open", (0, 1), (1, 1), (1, 2)),
-    ("bar",), ("bar", 0, 0), ("lengthen",), ("lengthen", 0, 1), ("promise",), ("promise", ("joined",), 1), ("drop",),
-    ("drop", ("joined",), 1), ("beats", ()), ("Beat", ()), ["beat", ()], [], "beat", (("beat", ()),), (("beat",), ()),
-    ("skip", 0), ("times", 2, ()), ("shorten", 0), ("joined",), ("undo",), (None, ()), ("", ()), {"beat": ()}, ("open", ()),
+    ("beat",), ("beat", (), ()), ("plan",), ("plan", (), ()), ("open",), ("open", (0, 1)),
+    ("open", (0, 1), (1, 1), (1, 2)), ("bar",), ("bar", 0, 0), ("lengthen",), ("lengthen", 0, 1), ("promise",),
+    ("promise", ("joined",), 1), ("drop",), ("drop", ("joined",), 1), ("beats", ()), ("Beat", ()),
+    ["beat", ()], [], "beat", (("beat", ()),), (("beat",), ()),
+    ("skip", 0), ("times", 2, ()), ("shorten", 0), ("joined",), ("undo",), (None, ()), ("", ()), {"beat": ()},
+    ("open", ()),
 ]
 
 
@@ -243,7 +245,8 @@ class Changes(Halls):
 
     def test_promises_made_twice_and_dropped(self):
         hall = Hall(EVEN)
-        for promise in [("joined",), ("number", 2), ("number", 1000), ("apart", 0, 1), ("callable", (2, 1, 0, 3, 4, 5))]:
+        for promise in [("joined",), ("number", 2), ("number", 1000), ("apart", 0, 1),
+                        ("callable", (2, 1, 0, 3, 4, 5))]:
             self.fails(BadPromise, {"thing": promise}, hall, hall.change, ("drop", promise))
             hall.change(("promise", promise))
             self.fails(BadPromise, {"thing": promise}, hall, hall.change, ("promise", promise))
@@ -381,8 +384,8 @@ class Deals(Halls):
         state = (((2, 3), ()), home(FLOOR), ())
         self.broken(hall, (("bar", 0),), ("number", 7), state)
         self.broken(hall, (("bar", 0), ("drop", ("number", 7))), ("free",), state)
-        self.broken(hall, (("drop", ("free",)), ("bar", 0), ("drop", ("number", 7)), ("promise", ("free",))), ("joined",),
-                    state)
+        self.broken(hall, (("drop", ("free",)), ("bar", 0), ("drop", ("number", 7)), ("promise", ("free",))),
+                    ("joined",), state)
         self.broken(hall, (("promise", ("callable", ())),), ("callable", ()), (FLOOR, home(FLOOR), ()))
         self.broken(hall, (("promise", ("apart", 0, 5)),), ("apart", 0, 5), (FLOOR, home(FLOOR), ()))
 

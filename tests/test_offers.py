@@ -191,10 +191,11 @@ class Offers(Case):
         for offers, right in [(RIGHT, ("offers", (0, 1))), (joined, ("labels", 2, (0, 1, 0, 1, 0, 1))),
                               ((), ("apart", (1,))), ((), ("labels", 2, (0, 1, 1, 0, 1, 0)))]:
             self.assertIs(offers_hold(BARE, offers, right), True)
-            wrong = [right + (0,), right[:1], right[1:], (right[0] + "s",) + right[1:], ("offers", ()), ("offers", (0,)),
-                     ("offers", (1, 0)), ("offers", (0, 1, 2)), ("labels", 1, (0,) * 6), ("labels", 2, (0,) * 6),
-                     ("labels", 2, (0, 1, 0, 1, 0)), ("labels", 4, (0, 1, 0, 1, 0, 1)), ("apart", ()), ("apart", (0, 1)),
-                     ("apart", (2,)), ("apart", 0), ("labels", 0, (0,) * 6), ("labels", 3, (0, 1, 0, 1, 0, 1))]
+            wrong = [right + (0,), right[:1], right[1:], (right[0] + "s",) + right[1:], ("offers", ()),
+                     ("offers", (0,)), ("offers", (1, 0)), ("offers", (0, 1, 2)), ("labels", 1, (0,) * 6),
+                     ("labels", 2, (0,) * 6), ("labels", 2, (0, 1, 0, 1, 0)), ("labels", 4, (0, 1, 0, 1, 0, 1)),
+                     ("apart", ()), ("apart", (0, 1)), ("apart", (2,)), ("apart", 0), ("labels", 0, (0,) * 6),
+                     ("labels", 3, (0, 1, 0, 1, 0, 1))]
             for thing in JUNK + spoiled(right) + wrong:
                 self.refuses(offers_hold, BARE, offers, thing)
         self.refuses(offers_hold, BARE, joined, ("apart", (0,)))

@@ -169,11 +169,12 @@ class Package(unittest.TestCase):
         for name, tree in TREES.items():
             imports = [node for node in tree.body if isinstance(node, ast.ImportFrom)]
             imported = {alias.name for node in imports for alias in node.names}
-            stored = {node.id for node in ast.walk(tree) if isinstance(node, ast.Name) and isinstance(node.ctx, ast.Store)}
+            words = [node for node in ast.walk(tree) if isinstance(node, ast.Name)]
+            stored = {node.id for node in words if isinstance(node.ctx, ast.Store)}
             stored |= {node.arg for node in ast.walk(tree) if isinstance(node, ast.arg)}
             defined = {node.name for node in ast.walk(tree) if isinstance(node, (ast.FunctionDef, ast.ClassDef))}
             self.assertEqual((stored | defined) & (taken | imported), set(), name)
-            read = {node.id for node in ast.walk(tree) if isinstance(node, ast.Name)}
+            read = {node.id for node in words}
             self.assertLessEqual(imported, read, name)
 
     def test_strings_have_no_percent_sign(self):

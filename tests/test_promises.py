@@ -17,8 +17,9 @@ HOLDS = ("holds",)
 WRONG_PROMISES = JUNK + spoiled(("number", 6)) + spoiled(("callable", (2, 0, 1))) + spoiled(("apart", 1, 3)) + spoiled(
     ("joined",)) + spoiled(("free",)) + [
     ("joined", ()), ("free", 1), ("number",), ("number", 0), ("number", 1001), ("number", -1), ("number", 10 ** 99),
-    ("number", 1, 2), ("callable",), ("callable", (0, 0)), ("callable", (1, 2)), ("callable", (0, 2)), ("callable", 0, 1),
-    ("callable", (-1, 0)), ("callable", ((0,),)), ("apart",), ("apart", 0), ("apart", 0, 0), ("apart", 1, 0),
+    ("number", 1, 2), ("callable",), ("callable", (0, 0)), ("callable", (1, 2)), ("callable", (0, 2)),
+    ("callable", 0, 1), ("callable", (-1, 0)), ("callable", ((0,),)), ("apart",), ("apart", 0),
+    ("apart", 0, 0), ("apart", 1, 0),
     ("apart", -1, 0), ("apart", 0, 1, 2), ("apart", (0, 1)), "joined", "free", ("beat", ()), ("tied", (0, 0), (0, 1)),
     ("touch", (0, 0), (0, 1)), ("holds",), ("number", "2"), ("callable", (0, 10 ** 99)), (("joined",),),
 ]
@@ -138,7 +139,8 @@ class Promises(Case):
         hall = Hall(BARE)
         self.same([hall.judged(("number", m))[:2] for m in [4, 2, 6, 3, 1]],
                   [HOLDS, ("part", 1), ("part", 1), ("part", 0), ("part", 0)])
-        self.same([hall.against_holds(("number", 3), ("part", p, g)) for p, g in [(0, 2), (1, 4), (0, 4), (1, 2), (2, 2)]],
+        parts = [(0, 2), (1, 4), (0, 4), (1, 2), (2, 2)]
+        self.same([hall.against_holds(("number", 3), ("part", p, g)) for p, g in parts],
                   [True, True, False, False, False])
         self.same([hall.against_holds(("number", 2), ("part", p, g)) for p, g in [(0, 2), (1, 4), (-1, 4), (0, 0)]],
                   [False, True, False, False])
@@ -173,7 +175,8 @@ class Promises(Case):
     def test_certificates_by_their_words(self):
         plans = [(), (("beat", ()),), (("times", 3, (("beat", ()),)),)]
         for floor in SMALL[:7]:
-            things = [("length",), ("gone",), HOLDS, ("parts", tuple(reference.parts(floor))), ("parts", ()), ("parts", ((0,),))]
+            things = [("length",), ("gone",), HOLDS, ("parts", tuple(reference.parts(floor))), ("parts", ()),
+                      ("parts", ((0,),))]
             things += [("part", p, g) for p in range(3) for g in range(5)]
             things += [("astray", d) for d in range(4)] + [("plan", plan) for plan in plans]
             things += [("unlike", d, e) for d in range(4) for e in range(4)]
@@ -211,7 +214,8 @@ class Promises(Case):
                 (even, ("apart", 0, 2), ("plan", (("beat", (0,)),)))]:
             self.assertIs(hall.against_holds(promise, right), True)
             wrong = [right + (0,), right + ((),), right[1:], (right[0] + "s",) + right[1:], HOLDS, ("parts", ((0, 1),)),
-                     ("parts", ((1,), (0,))), ("parts", ((0,),)), ("parts", ((0,), (1,), (2,))), ("labels", 1, (0,) * 6),
+                     ("parts", ((1,), (0,))), ("parts", ((0,),)), ("parts", ((0,), (1,), (2,))),
+                     ("labels", 1, (0,) * 6),
                      ("labels", 2, (0, 1, 0, 1, 1, 0)), ("part", 1, 2), ("part", 1, 1), ("astray", 1), ("unlike", 5, 1),
                      ("plan", ()), ("plan", (("beat", (1,)),)), ("parts", [(0,), (1,)])]
             if len(right) > 1:

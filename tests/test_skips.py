@@ -5,8 +5,8 @@ import math
 import random
 
 import reference
-from samples import (BARE, CHAIN, Case, EVEN, FLOOR, FLOOR_SLOT, JUNK, POINT, POINTS, SIX, TWO_PARTS, WRONG_ARRANGEMENTS,
-                     WRONG_PLANS, few, mixed, size_of, some_floors, spoiled, without)
+from samples import (BARE, CHAIN, Case, EVEN, FLOOR, FLOOR_SLOT, JUNK, POINT, POINTS, SIX, TWO_PARTS,
+                     WRONG_ARRANGEMENTS, WRONG_PLANS, few, mixed, size_of, some_floors, spoiled, without)
 from touchrings.called import called_rest
 from touchrings.errors import BadArrangement, BadPlan, BadSkips
 from touchrings.floors import places

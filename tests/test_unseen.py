@@ -268,7 +268,8 @@ class Seen(Unseen):
                      ("touches", (((1, 0), (0, 0)),)), ("touches", (((0, 0), (1, 0)), ((0, 1), (1, 1)))),
                      ("touches", (((0, 1), (1, 0)),)), ("strange", 0, (1, 0)), ("strange", 2, (1, 0)),
                      ("strange", 1, (2, 1)), ("strange", (1, 0), 1), ("two", 2, 1, (0, 0)), ("two", 1, 1, (0, 0)),
-                     ("two", 1, 2, (0, 1)), ("two", 1, 3, (0, 0)), ("strange", 10 ** 99, (1, 0)), ("strange", 1, (0, 9)),
+                     ("two", 1, 2, (0, 1)), ("two", 1, 3, (0, 0)), ("strange", 10 ** 99, (1, 0)),
+                     ("strange", 1, (0, 9)),
                      ("two", -2, -1, (0, 0)), ("strange", -1, (1, 0))]
             for thing in JUNK + spoiled(right) + wrong:
                 self.refuses(sights_hold, rings, sights, thing)

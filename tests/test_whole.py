@@ -4,8 +4,8 @@ import itertools
 import random
 
 from samples import CHAIN, Case, EVEN, FLOOR, FOURS, POINTS, SIX, THREES, TWO_PARTS, mixed, some_floors, some_plans
-from touchrings import (called, counts, fewest, figures, floors, halls, kinds, labels, offers, pairs, plans, ruled, skips,
-                        turnings, unseen, ways)
+from touchrings import (called, counts, fewest, figures, floors, halls, kinds, labels, offers, pairs, plans, ruled,
+                        skips, turnings, unseen, ways)
 
 SOME = [FLOOR, EVEN, SIX, POINTS, TWO_PARTS, CHAIN, THREES, FOURS] + some_floors(25)
 
